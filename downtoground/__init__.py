@@ -1,0 +1,1 @@
+"""Downtoground: sentences settled by finitely many plain instances."""
