@@ -4,6 +4,8 @@ Names are triples (name, arity, weight), in the order of their places. Terms of 
 in the order of their names, and with one name in the order of their first unlike arguments.
 """
 
+from downtoground.parts import parts_of
+
 
 class Counts:
     """How many rows of ground things there are, by how many stand in a row and what they weigh.
@@ -22,19 +24,20 @@ class Counts:
         """Adds the next weight; what it needs is of lower weights alone."""
         weight = len(self.rows[0])
         self.rows[0].append(0)
-        self.rows[1].append(sum(self.many(arity, weight - own) for _, arity, own in self.things))
+        self.rows[1].append(sum(self.many(triple, weight) for triple in self.things))
         firsts = self.rows[1]
         for longer in range(2, len(self.rows)):
             rests = self.rows[longer - 1]
             self.rows[longer].append(sum(firsts[own] * rests[weight - own] for own in range(1, weight)))
 
-    def many(self, arity, weight):
-        """How many rows of so many things weigh so much."""
-        return 0 if weight < 0 else self.rows[arity][weight]
+    def many(self, triple, weight):
+        """How many ground terms with a name weigh so much."""
+        _, arity, own = triple
+        return self.rows[arity][weight - own] if weight >= own else 0
 
     def weighing(self, weight):
         """How many ground terms weigh so much, ("yes",) among them."""
-        named = sum(self.many(arity, weight - own) for _, arity, own in self.names)
+        named = sum(self.many(triple, weight) for triple in self.names)
         return named + (1 if weight == 1 else 0)
 
 
@@ -48,60 +51,96 @@ def counts_to(things, truths, weight):
 
 def ahead_of(counts, term):
     """The weight of a term other than ("yes",), and how many such ones of this weight are below it."""
-    parts = []
-    for part in term[1:]:
-        parts.append(ahead_of(counts, part))
-    weight = counts.weights[term[0]] + sum(own for own, _ in parts)
-    ahead = _rows_ahead(counts, parts)
-    for name, arity, own in counts.names:
-        if name == term[0]:
+    done = []
+    # Terms may be as deep as they weigh: so no function calls itself here. From behind, the
+    # arguments come ahead of what they stand in.
+    for part in reversed(parts_of(term)):
+        row = _taken_off(done, len(part) - 1)
+        done.append(_head_ahead(counts, part[0], row))
+    return done[0]
+
+
+def _taken_off(done, many):
+    """A list of so many last items, the last one first, taken off a list."""
+    row = []
+    for _ in range(many):
+        row.append(done.pop())
+    return row
+
+
+def _head_ahead(counts, head, row):
+    """What ahead_of tells of a term with this name, row being what it tells of the arguments."""
+    weight = counts.weights[head] + sum(own for own, _ in row)
+    ahead = _rows_ahead(counts, row)
+    for triple in counts.names:
+        if triple[0] == head:
             break
-        ahead += counts.many(arity, weight - own)
+        ahead += counts.many(triple, weight)
     return (weight, ahead)
 
 
-def _rows_ahead(counts, parts):
+def _rows_ahead(counts, row):
     """How many rows of things are ahead of one, of as many, that weigh as much in all.
 
     Its things are told by pairs as ahead_of tells them.
     """
     total = 0
-    left = sum(own for own, _ in parts)
-    for index, (own, ahead) in enumerate(parts):
-        rests = counts.rows[len(parts) - index - 1]
-        for less in range(1, own):
+    left = sum(own for own, _ in row)
+    for index, (own, ahead) in enumerate(row):
+        later = len(row) - index - 1
+        rests = counts.rows[later]
+        for less in range(_least_first(later, left), own):
             total += counts.rows[1][less] * rests[left - less]
         total += ahead * rests[left - own]
         left -= own
     return total
 
 
-def term_with(counts, names, weight, number):
-    """The term of a weight, with one of the names, that has so many such ones below it."""
-    for name, arity, own in names:
-        many = counts.many(arity, weight - own)
-        if number < many:
-            parts = [name]
-            for part_weight, part_number in _row_with(counts, arity, weight - own, number):
-                parts.append(term_with(counts, counts.things, part_weight, part_number))
-            return tuple(parts)
-        number -= many
-    return None
+def _least_first(later, weight):
+    """What the first thing of a row weighs at least, so many later ones being in it."""
+    # The last one weighs all that is left.
+    return max(1, weight) if later == 0 else 1
 
 
-def _row_with(counts, arity, weight, number):
-    """The pairs (weight, number) of the things of the row that has so many ahead of it."""
-    pairs = []
-    for later in range(arity - 1, -1, -1):
+def term_with(counts, weight, number):
+    """The term of a weight, other than ("yes",), that has so many such ones below it."""
+    heads = []
+    waiting = [(counts.names, weight, number)]
+    while waiting:
+        names, own, ahead = waiting.pop()
+        triple, ahead = _head_with(counts, names, own, ahead)
+        heads.append(triple)
+        for pair in reversed(_row_with(counts, triple[1], own - triple[2], ahead)):
+            waiting.append((counts.things, pair[0], pair[1]))
+    done = []
+    for name, arity, _ in reversed(heads):
+        row = _taken_off(done, arity)
+        done.append((name,) + tuple(row))
+    return done[0]
+
+
+def _head_with(counts, names, weight, number):
+    """The triple of the name of the term at this number, and the number among those with this name."""
+    index = 0
+    while number >= counts.many(names[index], weight):
+        number -= counts.many(names[index], weight)
+        index += 1
+    return (names[index], number)
+
+
+def _row_with(counts, many, weight, number):
+    """The list of pairs (weight, number) of the things of the row that has so many ahead of it."""
+    row = []
+    for later in range(many - 1, -1, -1):
         rests = counts.rows[later]
-        own = 1
+        own = _least_first(later, weight)
         while number >= counts.rows[1][own] * rests[weight - own]:
             number -= counts.rows[1][own] * rests[weight - own]
             own += 1
         first, number = divmod(number, rests[weight - own])
-        pairs.append((own, first))
+        row.append((own, first))
         weight -= own
-    return pairs
+    return row
 
 
 def terms_weighing(names, known, weight):
@@ -121,7 +160,7 @@ def _rows_weighing(known, many, weight):
     if many == 0:
         return [()] if weight == 0 else []
     found = []
-    for own in range(1, weight - many + 2):
+    for own in range(_least_first(many - 1, weight), weight - many + 2):
         found.extend(_rows_behind((), known[own], known, many - 1, weight - own))
     return found
 
@@ -134,19 +173,17 @@ def _rows_behind(begun, firsts, known, many, weight):
     return [begun + (first,) + rest for first in firsts for rest in rests]
 
 
-def rows_below(known, parts, weights):
+def rows_below(known, parts, row):
     """A list of all rows of things ahead of one, of as many, that weigh as much in all, ascending.
 
-    weights are those of its things.
+    row tells its things by pairs as ahead_of tells them.
     """
     found = []
-    left = sum(weights)
-    for index, part in enumerate(parts):
-        later = len(parts) - index - 1
-        for own in range(1, weights[index] + 1):
-            firsts = known[own]
-            if own == weights[index]:
-                firsts = firsts[:firsts.index(part)]
+    left = sum(own for own, _ in row)
+    for index, (weight, ahead) in enumerate(row):
+        later = len(row) - index - 1
+        for own in range(_least_first(later, left), weight + 1):
+            firsts = known[own] if own < weight else known[own][:ahead]
             found.extend(_rows_behind(parts[:index], firsts, known, later, left - own))
-        left -= weights[index]
+        left -= weight
     return found

@@ -135,7 +135,7 @@ def term_at(order, place):
         weight += 1
         counts.grow()
         if left < counts.weighing(weight):
-            return term_with(counts, counts.names, weight, left - (1 if weight == 1 else 0))
+            return term_with(counts, weight, left - (1 if weight == 1 else 0))
         left -= counts.weighing(weight)
     raise BadNumber("place", place)
 
@@ -153,19 +153,29 @@ def below(order, term):
     if term == YES:
         return ()
     weight = weight_of(order, term)
-    found = [YES]
+    known, found = _lighter(order, weight)
+    names_ahead = (order.things + order.truths)[:order._places[term[0]] - 1]
+    found.extend(terms_weighing(names_ahead, known, weight))
+    counts = counts_to(order.things, order.truths, weight)
+    row = [ahead_of(counts, part) for part in term[1:]]
+    for parts in rows_below(known, term[1:], row):
+        found.append(term[:1] + parts)
+    return tuple(found)
+
+
+def _lighter(order, weight):
+    """Lists of the ground things of each lower weight, and of all ground terms of these weights.
+
+    ("yes",) is among the latter, as it is below all others of its weight, too.
+    """
     known = [[]]
+    found = [YES]
     for less in range(1, weight):
         things = terms_weighing(order.things, known, less)
         found.extend(things)
         found.extend(terms_weighing(order.truths, known, less))
         known.append(things)
-    ahead = (order.things + order.truths)[:order._places[term[0]] - 1]
-    found.extend(terms_weighing(ahead, known, weight))
-    weights = [weight_of(order, part) for part in term[1:]]
-    for row in rows_below(known, term[1:], weights):
-        found.append(term[:1] + row)
-    return tuple(found)
+    return known, found
 
 
 def things_to(order, term):

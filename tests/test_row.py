@@ -163,6 +163,17 @@ class SizesTest(unittest.TestCase):
         self.assertEqual(things_to(order, term)[-1], term)
         self.assertEqual(compare(order, term, ("p", term[1])), "below")
 
+    def test_a_term_as_deep_as_its_place(self):
+        # Terms as deep as these cannot be compared by ==, so their numbers are.
+        order = Order((("a", 0, 1), ("f", 1, 1)), ())
+        term = term_at(order, 3000)
+        self.assertEqual(weight_of(order, term), 3000)
+        self.assertEqual(place_of(order, term), 3000)
+        row = below(order, term)
+        self.assertEqual(len(row), 3000)
+        self.assertEqual([place_of(order, part) for part in row[::250]], list(range(0, 3000, 250)))
+        self.assertEqual(len(things_to(order, term)), 3000)
+
     def test_below_with_as_many_as_are_told(self):
         for order, _ in ENDLESS:
             if max(arity for _, arity, _ in order.things) < 2:
