@@ -4,7 +4,7 @@ Names are triples (name, arity, weight), in the order of their places. Terms of 
 in the order of their names, and with one name in the order of their first unlike arguments.
 """
 
-from downtoground.parts import parts_of
+from downtoground.parts import parts_of, taken_off
 
 
 class Counts:
@@ -55,17 +55,9 @@ def ahead_of(counts, term):
     # Terms may be as deep as they weigh: so no function calls itself here. From behind, the
     # arguments come ahead of what they stand in.
     for part in reversed(parts_of(term)):
-        row = _taken_off(done, len(part) - 1)
+        row = taken_off(done, len(part) - 1)
         done.append(_head_ahead(counts, part[0], row))
     return done[0]
-
-
-def _taken_off(done, many):
-    """A list of so many last items, the last one first, taken off a list."""
-    row = []
-    for _ in range(many):
-        row.append(done.pop())
-    return row
 
 
 def _head_ahead(counts, head, row):
@@ -114,7 +106,7 @@ def term_with(counts, weight, number):
             waiting.append((counts.things, pair[0], pair[1]))
     done = []
     for name, arity, _ in reversed(heads):
-        row = _taken_off(done, arity)
+        row = taken_off(done, arity)
         done.append((name,) + tuple(row))
     return done[0]
 

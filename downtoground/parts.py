@@ -25,3 +25,14 @@ def places_of(term):
             for index in range(len(part) - 2, -1, -1):
                 waiting.append((path + (index,), part[index + 1]))
     return found
+
+
+def taken_off(done, many):
+    """A list of so many last items, the last one first, taken off a list.
+
+    Where parts are gone through from behind, the last item of done is what the first argument came to.
+    """
+    row = []
+    for _ in range(many):
+        row.append(done.pop())
+    return row

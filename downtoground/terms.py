@@ -30,10 +30,14 @@ def at(term, path):
 
 def put_at(term, path, new):
     """The term with a new part at a path of it."""
-    if path == ():
-        return new
-    index = path[0] + 1
-    return term[:index] + (put_at(term[index], path[1:], new),) + term[index + 1:]
+    around = []
+    for index in path:
+        around.append((term, index + 1))
+        term = term[index + 1]
+    # From within outwards, as a term may be deeper than calls can go.
+    for whole, index in reversed(around):
+        new = whole[:index] + (new,) + whole[index + 1:]
+    return new
 
 
 def put(term, pairs):

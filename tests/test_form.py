@@ -130,6 +130,12 @@ class InterfaceTest(unittest.TestCase):
             "terms": "size variables_of paths_of at put_at put behind renamed match Unifier Apart unify is_unify",
             "orders": "Order weight_of compare count_of place_of term_at below things_to compare_literals "
                       "compare_clauses greatest_at alone_greatest_at",
+            "texts": "sentence_of sentence_text clause_text clause_of kinds order_of",
+            "rules": "are_rules steps_from stepped normal holds chain_end joined Joined led_together Chained Parted "
+                     "is_led",
+            "ground": "decide Rules Closed is_decided is_closed named_by few",
+            "structures": "Structure is_structure value_in is_true first_false members with_elements lot_of "
+                          "structure_of Found NoneFound is_sought tables_of rules_of least_structure NoneUpTo",
         }
         for stem, names in listed.items():
             defined = top_names(ast.parse((FOLDER / (stem + ".py")).read_text()))
