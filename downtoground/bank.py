@@ -31,3 +31,36 @@ class Bank:
             self.terms.append((name,) + tuple(self.terms[number] for number in row))
             self.rows.append(row)
         return self.numbers[key]
+
+
+class Ranking:
+    """A bank of ground terms of an order, and which of two of them is above the other, by numbers.
+
+    `places` leads from each name to the pair of its weight and its place.
+    """
+
+    def __init__(self, order):
+        ranked = (("yes", 0, 1),) + order.things + order.truths
+        self.places = {name: (weight, place) for place, (name, _, weight) in enumerate(ranked)}
+        self.bank = Bank()
+        # The weights of the terms, by numbers, as far as they have been asked for.
+        self.weights = []
+
+    def weight_of(self, number):
+        """The weight of a term."""
+        for next_one in range(len(self.weights), number + 1):
+            own = self.places[self.bank.terms[next_one][0]][0]
+            self.weights.append(own + sum([self.weights[part] for part in self.bank.rows[next_one]]))
+        return self.weights[number]
+
+    def is_above(self, one, other):
+        """Whether a term is above another one."""
+        while one != other:
+            if self.weight_of(one) != self.weight_of(other):
+                return self.weight_of(one) > self.weight_of(other)
+            name, other_name = self.bank.terms[one][0], self.bank.terms[other][0]
+            if name != other_name:
+                return self.places[name][1] > self.places[other_name][1]
+            pairs = list(zip(self.bank.rows[one], self.bank.rows[other]))
+            one, other = [pair for pair in pairs if pair[0] != pair[1]][0]
+        return False

@@ -4,7 +4,7 @@ from downtoground.cases import learned, numbered, searched
 from downtoground.joining import rules_by
 from downtoground.leading import Judge, Leading
 from downtoground.rules import chain_end
-from downtoground.values import is_below, kept
+from downtoground.values import is_below, is_worded, kept
 
 
 class Rules:
@@ -57,21 +57,16 @@ def is_closed(lot, tree):
     return True
 
 
-def _is_worded(value, word):
-    """Whether any value is a tuple of three items, the first one a word."""
-    return isinstance(value, tuple) and len(value) == 3 and isinstance(value[0], str) and value[0] == word
-
-
 def _is_case(lot, value):
     """Whether any value names a clause and has as many further values as it has literals."""
-    if not _is_worded(value, "case") or not is_below(value[1], len(lot)):
+    if not is_worded(value, "case", 3) or not is_below(value[1], len(lot)):
         return False
     return isinstance(value[2], tuple) and len(value[2]) == len(lot[value[1]])
 
 
 def _is_ring(taken, value):
     """Whether any value is a ring that closes where these literals are taken."""
-    if not _is_worded(value, "ring") or not is_below(value[1], len(taken)):
+    if not is_worded(value, "ring", 3) or not is_below(value[1], len(taken)):
         return False
     sign, left, right = taken[value[1]]
     if sign:

@@ -1,6 +1,6 @@
 """Normal forms under ground rules, and the judge of such rules. Values may be any here."""
 
-from downtoground.bank import Bank
+from downtoground.bank import Bank, Ranking
 
 
 class Leading:
@@ -62,11 +62,10 @@ class Judge:
     """Looks at any values as rules of an order."""
 
     def __init__(self, order):
-        ranked = (("yes", 0, 1),) + order.things + order.truths
         self.things = {name: arity for name, arity, _ in order.things}
         self.others = {name: arity for name, arity, _ in (("yes", 0, 1),) + order.truths}
-        self.places = {name: (weight, place) for place, (name, _, weight) in enumerate(ranked)}
-        self.bank = Bank()
+        self.ranking = Ranking(order)
+        self.bank = self.ranking.bank
 
     def are_rules(self, value):
         """Whether any value is a tuple of pairs that fall and are lean."""
@@ -75,8 +74,7 @@ class Judge:
         if not all([self.is_pair(pair) for pair in value]):
             return False
         numbers = [(self.bank.number_of(left), self.bank.number_of(right)) for left, right in value]
-        weights = self.all_weights()
-        falling = all([self.is_above(weights, left, right) for left, right in numbers])
+        falling = all([self.ranking.is_above(left, right) for left, right in numbers])
         return falling and self.are_lean([left for left, _ in numbers])
 
     def is_pair(self, value):
@@ -93,33 +91,14 @@ class Judge:
         waiting = [value]
         while waiting:
             part = waiting.pop()
-            if not _is_named(self.things, part):
+            if not is_named(self.things, part):
                 return False
             waiting.extend(part[:0:-1])
         return True
 
     def is_other(self, value):
         """Whether any value is a ground atom of the order, or yes."""
-        return _is_named(self.others, value) and all([self.is_thing(part) for part in value[1:]])
-
-    def all_weights(self):
-        """A list of the weights of all terms in the bank, by their numbers."""
-        found = []
-        for term, row in zip(self.bank.terms, self.bank.rows):
-            found.append(self.places[term[0]][0] + sum(found[part] for part in row))
-        return found
-
-    def is_above(self, weights, one, other):
-        """Whether a ground term is above another one, by their numbers."""
-        while one != other:
-            if weights[one] != weights[other]:
-                return weights[one] > weights[other]
-            name, other_name = self.bank.terms[one][0], self.bank.terms[other][0]
-            if name != other_name:
-                return self.places[name][1] > self.places[other_name][1]
-            pairs = list(zip(self.bank.rows[one], self.bank.rows[other]))
-            one, other = [pair for pair in pairs if pair[0] != pair[1]][0]
-        return False
+        return is_named(self.others, value) and all([self.is_thing(part) for part in value[1:]])
 
     def are_lean(self, lefts):
         """Whether lefts are unlike, and none is a part of another one."""
@@ -133,7 +112,7 @@ class Judge:
         return len({left for left in lefts}) == len(lefts) and not any([left in within for left in lefts])
 
 
-def _is_named(arities, value):
+def is_named(arities, value):
     """Whether any value is a tuple of one of some names and as many more items as its arity."""
     if not isinstance(value, tuple) or len(value) == 0 or not isinstance(value[0], str):
         return False

@@ -2,7 +2,6 @@
 
 from downtoground.counting import Counts, ahead_of, counts_to, rows_below, term_with, terms_weighing
 from downtoground.errors import BadNumber, BadRow
-from downtoground.parts import parts_of
 from downtoground.values import is_from
 
 YES = ("yes",)
@@ -54,47 +53,87 @@ def _weighed(order, term):
     """The weight of a term, and a dict that tells how often each variable stands in it."""
     weight = 0
     often = {}
-    for part in parts_of(term):
+    waiting = [term]
+    while waiting:
+        part = waiting.pop()
         if isinstance(part, int):
             weight += 1
             often[part] = often.get(part, 0) + 1
         else:
             weight += order._weights[part[0]]
+            waiting.extend(part[1:])
     return (weight, often)
 
 
 def compare(order, one, other):
     """Whether a term is "above", "below" or "alike" another one; None if it is none of these."""
+    may_be_above = True
+    may_be_below = True
+    while one != other:
+        one_weight, one_often = _weighed(order, one)
+        other_weight, other_often = _weighed(order, other)
+        may_be_above = may_be_above and _has_as_often(one_often, other_often)
+        may_be_below = may_be_below and _has_as_often(other_often, one_often)
+        way = _way_by_heads(order, (one_weight, one), (other_weight, other))
+        if way is not None:
+            return way if (may_be_above if way == "above" else may_be_below) else None
+        if isinstance(one, int) or isinstance(other, int):
+            return None
+        # All is as it is between the first unlike arguments, but for the variables around them.
+        one, other = _first_unlike(one, other)
+    return "alike"
+
+
+def is_above(order, one, other):
+    """Whether compare tells "above" of two terms."""
+    while one != other and not isinstance(one, int):
+        one_weight, one_often = _weighed(order, one)
+        other_weight, other_often = _weighed(order, other)
+        if one_weight < other_weight or not _has_as_often(one_often, other_often):
+            return False
+        if one_weight > other_weight:
+            return True
+        if isinstance(other, int) or one[0] != other[0]:
+            return not isinstance(other, int) and order._places[one[0]] > order._places[other[0]]
+        one, other = _first_unlike(one, other)
+    return False
+
+
+def is_even(order, one, other):
+    """Whether two terms that are no variables have one name, one weight and the same variables."""
+    if isinstance(one, int) or isinstance(other, int) or one[0] != other[0]:
+        return False
+    return _weighed(order, one) == _weighed(order, other)
+
+
+def is_above_evenly(order, one, other):
+    """What is_above tells of two terms that are even: that takes but a look at their arguments."""
     if one == other:
-        return "alike"
-    one_weight, one_often = _weighed(order, one)
-    other_weight, other_often = _weighed(order, other)
-    if one_weight == other_weight:
-        way = _way_by_names(order, one, other)
-    else:
-        way = _way(one_weight, other_weight)
-    if way == "above" and _has_as_often(one_often, other_often):
-        return "above"
-    if way == "below" and _has_as_often(other_often, one_often):
-        return "below"
-    return None
+        return False
+    left, right = _first_unlike(one, other)
+    return is_above(order, left, right)
+
+
+def _first_unlike(one, other):
+    """The first unlike arguments of two unlike terms with one name."""
+    index = 1
+    while one[index] == other[index]:
+        index += 1
+    return one[index], other[index]
+
+
+def _way_by_heads(order, one, other):
+    """The way in which the weights of two terms point, or else their names; None if neither does."""
+    if one[0] != other[0]:
+        return _way(one[0], other[0])
+    if isinstance(one[1], int) or isinstance(other[1], int) or one[1][0] == other[1][0]:
+        return None
+    return _way(order._places[one[1][0]], order._places[other[1][0]])
 
 
 def _way(one, other):
     """The way in which two unlike numbers point."""
     return "above" if one > other else "below"
-
-
-def _way_by_names(order, one, other):
-    """The way in which two unlike terms of one weight point, by their names and arguments."""
-    if isinstance(one, int) or isinstance(other, int):
-        return None
-    if one[0] != other[0]:
-        return _way(order._places[one[0]], order._places[other[0]])
-    for part, other_part in zip(one[1:], other[1:]):
-        if part != other_part:
-            return compare(order, part, other_part)
-    return None
 
 
 def _has_as_often(often, least):
@@ -186,12 +225,15 @@ def things_to(order, term):
 
 def compare_literals(order, one, other):
     """Two literals compared by their lots, as compare tells."""
-    return _compare_lots(order, _lot_of(one), _lot_of(other), compare)
+    own, rest = _struck_out(_lot_of(one), _lot_of(other), _are_equal, order)
+    # A term that stands twice in a lot tells no more than once.
+    return _way_of_lots(order, _each_once(own), _each_once(rest), compare)
 
 
 def compare_clauses(order, one, other):
     """Two clauses compared by their literals, as compare tells."""
-    return _compare_lots(order, one, other, compare_literals)
+    own, rest = _struck_out(one, other, _are_alike, order)
+    return _way_of_lots(order, own, rest, compare_literals)
 
 
 def _lot_of(literal):
@@ -199,30 +241,43 @@ def _lot_of(literal):
     return (left, right) if sign else (left, left, right, right)
 
 
-def _compare_lots(order, ones, others, judged):
-    """Two lots compared, judged being the function that compares two items."""
+def _are_equal(order, one, other):
+    return one == other
+
+
+def _are_alike(order, one, other):
+    return compare_literals(order, one, other) == "alike"
+
+
+def _struck_out(ones, others, are_alike, order):
+    """Lists of what is left of two lots when alike items are struck out, one for one."""
     rest = list(others)
     own = []
     for item in ones:
-        twin = _alike_at(order, item, rest, judged)
-        if twin is None:
-            own.append(item)
+        twins = [index for index, other in enumerate(rest) if are_alike(order, item, other)]
+        if twins:
+            del rest[twins[0]]
         else:
-            del rest[twin]
+            own.append(item)
+    return own, rest
+
+
+def _each_once(row):
+    found = []
+    for item in row:
+        if item not in found:
+            found.append(item)
+    return found
+
+
+def _way_of_lots(order, own, rest, judged):
+    """What is left of two lots compared, judged being the function that compares two items."""
     if not own and not rest:
         return "alike"
     if _are_all_below(order, rest, own, judged):
         return "above"
     if _are_all_below(order, own, rest, judged):
         return "below"
-    return None
-
-
-def _alike_at(order, item, rest, judged):
-    """The index of the first item of a list that is alike one, or None."""
-    for index, other in enumerate(rest):
-        if judged(order, item, other) == "alike":
-            return index
     return None
 
 

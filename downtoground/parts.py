@@ -27,6 +27,20 @@ def places_of(term):
     return found
 
 
+def filled(term, table):
+    """The term with a dict's terms in the places of its variables, or great names, all at once."""
+    if not isinstance(term, tuple):
+        return table.get(term, term)
+    return term[:1] + tuple([filled(part, table) for part in term[1:]])
+
+
+def called(term, table):
+    """The term with its names called as a dict tells, where it tells of them."""
+    if not isinstance(term, tuple):
+        return term
+    return (table.get(term[0], term[0]),) + tuple([called(part, table) for part in term[1:]])
+
+
 def taken_off(done, many):
     """A list of so many last items, the last one first, taken off a list.
 

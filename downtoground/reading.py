@@ -17,7 +17,7 @@ class SentenceReader(Reader):
     """
 
     def __init__(self, text):
-        Reader.__init__(self, text)
+        super().__init__(text)
         self.done = []
         self.begun = []
 

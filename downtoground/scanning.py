@@ -105,3 +105,10 @@ class Reader:
     def has_arguments(self, part):
         """Whether the part that was just read is a name with its arguments behind it."""
         return isinstance(part, tuple) and len(part) == 1 and self.next_sign() == "("
+
+
+def is_name(value):
+    """Whether any value is a name."""
+    if not isinstance(value, str) or value in NO_NAMES or len(value) not in range(1, LONGEST_NAME + 1):
+        return False
+    return value[0] in LOWER and all([sign in LOWER + DIGITS + "_" for sign in value])

@@ -1,6 +1,6 @@
-"""What stands in a sentence, from the left. No call goes as deep as the sentence."""
+"""What stands in a sentence, from the left, and what is put into it."""
 
-from downtoground.parts import parts_of
+from downtoground.parts import filled, parts_of
 
 
 def atoms_of(sentence):
@@ -24,10 +24,29 @@ def spoken_in(atom):
     return [part for term in atom[1:] for part in parts_of(term)]
 
 
-def first_unbound(sentence):
-    """The first great name in a term that is not bound, or None."""
+def free_in(sentence):
+    """A list of the free great names of a sentence, in the order in which they first come so."""
+    found = {}
     for atom, bound in atoms_of(sentence):
         for part in spoken_in(atom):
             if isinstance(part, str) and part not in bound:
-                return part
-    return None
+                found[part] = True
+    return list(found)
+
+
+def names_in(sentence):
+    """A list of the names in a sentence, as they come."""
+    return [part[0] for atom, _ in atoms_of(sentence) for part in spoken_in(atom) if isinstance(part, tuple)]
+
+
+def put_within(sentence, table):
+    """The sentence with a dict's terms in the places of great names.
+
+    None of those is bound in it, nor is one that stands in these terms.
+    """
+    word = sentence[0]
+    if word == "is" or word == "equal":
+        return (word,) + tuple([filled(term, table) for term in sentence[1:]])
+    if word == "all" or word == "some":
+        return (word, sentence[1], put_within(sentence[2], table))
+    return (word,) + tuple([put_within(part, table) for part in sentence[1:]])

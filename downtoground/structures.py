@@ -1,10 +1,10 @@
 """Layer 11: finite structures, and the lots that ask for them."""
 
+from downtoground.clauses import put_in, variables_in
 from downtoground.ground import Closed, decide, is_closed
 from downtoground.leading import Leading
 from downtoground.orders import Order
-from downtoground.terms import put, variables_of
-from downtoground.values import is_below, is_from, kept
+from downtoground.values import all_rows, is_below, is_from, kept
 
 YES = ("yes",)
 
@@ -45,17 +45,9 @@ def _power(size, arity):
     return many
 
 
-def _rows(size, many):
-    """A list of all rows of so many elements, ascending."""
-    rows = [()]
-    for _ in range(many):
-        rows = [row + (element,) for row in rows for element in range(size)]
-    return rows
-
-
 def value_in(structure, term, values):
     """The element that a thing stands for by the values of its variables, or whether a truth is so."""
-    if isinstance(term, int):
+    if not isinstance(term, tuple):
         return values[term]
     if term == YES:
         return True
@@ -81,8 +73,8 @@ def first_false(structure, clauses):
 
 def _false_values(structure, clause):
     """The first row of values by which no literal of a clause is true, or None."""
-    used = _variables_of_clause(clause)
-    for row in _rows(structure.size, len(used)):
+    used = sorted(variables_in(clause))
+    for row in all_rows(structure.size, len(used)):
         # Those that the clause does not have are 0 in the first row.
         values = [0] * _many_values(used)
         for variable, element in zip(used, row):
@@ -95,12 +87,6 @@ def _false_values(structure, clause):
 def _is_so(structure, literal, values):
     sign, left, right = literal
     return (value_in(structure, left, values) == value_in(structure, right, values)) == sign
-
-
-def _variables_of_clause(clause):
-    """The list of the variables of a clause, ascending."""
-    return sorted({variable for _, left, right in clause for side in (left, right)
-                   for variable in variables_of(side)})
 
 
 def _many_values(variables):
@@ -123,13 +109,12 @@ def lot_of(order, size, clauses):
     names = members(size)
     lot = [((False, names[low], names[high]),) for low in range(size) for high in range(low + 1, size)]
     for name, arity, _ in order.things:
-        for row in _rows(size, arity):
+        for row in all_rows(size, arity):
             left = _filled(name, row)
             lot.append(tuple((True, left, right) for right in names))
     for clause in clauses:
-        for row in _rows(size, _many_values(_variables_of_clause(clause))):
-            pairs = tuple((variable, names[element]) for variable, element in enumerate(row))
-            lot.append(tuple((sign, put(left, pairs), put(right, pairs)) for sign, left, right in clause))
+        for row in all_rows(size, _many_values(sorted(variables_in(clause)))):
+            lot.append(put_in(clause, {variable: names[element] for variable, element in enumerate(row)}))
     return tuple(lot)
 
 
@@ -174,9 +159,9 @@ def tables_of(order, size, rules):
     leading = Leading(rules)
     tables = {}
     for name, arity, _ in order.things:
-        tables[name] = tuple(int(leading.normal(_filled(name, row))[0]) for row in _rows(size, arity))
+        tables[name] = tuple(int(leading.normal(_filled(name, row))[0]) for row in all_rows(size, arity))
     for name, arity, _ in order.truths:
-        tables[name] = tuple(leading.are_one(_filled(name, row), YES) for row in _rows(size, arity))
+        tables[name] = tuple(leading.are_one(_filled(name, row), YES) for row in all_rows(size, arity))
     return tables
 
 
@@ -184,10 +169,10 @@ def rules_of(order, structure):
     """The rules that lead each name with elements to its value in a structure."""
     rules = []
     for name, arity, _ in order.things:
-        for row, worth in zip(_rows(structure.size, arity), structure.tables[name]):
+        for row, worth in zip(all_rows(structure.size, arity), structure.tables[name]):
             rules.append((_filled(name, row), (str(worth),)))
     for name, arity, _ in order.truths:
-        for row, worth in zip(_rows(structure.size, arity), structure.tables[name]):
+        for row, worth in zip(all_rows(structure.size, arity), structure.tables[name]):
             if worth:
                 rules.append((_filled(name, row), YES))
     return tuple(rules)

@@ -1,7 +1,7 @@
 """Layer 1: terms, putting in, matching, unifying."""
 
 from downtoground.barring import equations_told, is_end
-from downtoground.parts import parts_of, places_of
+from downtoground.parts import filled, parts_of, places_of
 from downtoground.unifying import Reckoning
 from downtoground.values import is_from, kept
 
@@ -42,16 +42,7 @@ def put_at(term, path, new):
 
 def put(term, pairs):
     """The term with the terms of a substitution in the places of its variables, all at once."""
-    return _filled(term, dict(pairs))
-
-
-def _filled(term, table):
-    if isinstance(term, int):
-        return table.get(term, term)
-    parts = [term[0]]
-    for part in term[1:]:
-        parts.append(_filled(part, table))
-    return tuple(parts)
+    return filled(term, dict(pairs))
 
 
 def behind(one, other):
@@ -73,7 +64,7 @@ def renamed(term, first):
     for part in parts_of(term):
         if isinstance(part, int) and part not in table:
             table[part] = first + len(table)
-    return _filled(term, table)
+    return filled(term, table)
 
 
 def match(pattern, term):

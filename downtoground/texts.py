@@ -3,7 +3,7 @@
 from downtoground.errors import BadName, BadText, Unbound, Unlike
 from downtoground.orders import Order
 from downtoground.reading import ClauseReader, SentenceReader
-from downtoground.spoken import atoms_of, first_unbound, spoken_in
+from downtoground.spoken import atoms_of, free_in, spoken_in
 
 LOOSEST = 0
 UNIT = 4
@@ -16,9 +16,9 @@ def sentence_of(text):
     if not isinstance(text, str):
         raise BadText(0)
     sentence = SentenceReader(text).sentence()
-    name = first_unbound(sentence)
-    if name is not None:
-        raise Unbound(name)
+    unbound = free_in(sentence)
+    if unbound:
+        raise Unbound(unbound[0])
     return sentence
 
 

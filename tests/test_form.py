@@ -136,11 +136,26 @@ class InterfaceTest(unittest.TestCase):
             "ground": "decide Rules Closed is_decided is_closed named_by few",
             "structures": "Structure is_structure value_in is_true first_false members with_elements lot_of "
                           "structure_of Found NoneFound is_sought tables_of rules_of least_structure NoneUpTo",
+            "sentences": "free meaning is_so plain inwards apart clauses_of Clauses order_with tables_for",
+            "steps": "conclusion_of fillings_behind is_needed all_steps",
+            "needless": "is_paper paper_for told_behind",
+            "loop": "lines_above Loop stands cut worked open_steps open_input reopened settle Refuted Saturated "
+                    "OutOfSteps",
+            "judge": "is_refutation grounded ground_lines is_saturation",
+            "models": "rule_at maker_of normal_by true_by rules_for all_rules",
+            "theories": "Theory is_theory_right",
         }
         for stem, names in listed.items():
             defined = top_names(ast.parse((FOLDER / (stem + ".py")).read_text()))
             for name in names.split():
                 self.assertIn(name, defined, stem)
+
+    def test_methods_stand_in_their_own_class(self):
+        tree = ast.parse((FOLDER / "theories.py").read_text())
+        own = [node.name for node in ast.walk(tree) if isinstance(node, ast.FunctionDef)]
+        for name in ("put names get grounds paper drop rename follows finding consistent parted undo redo attempt "
+                     "trial").split():
+            self.assertIn(name, own)
 
 
 if __name__ == "__main__":
