@@ -5,7 +5,6 @@ from downtoground.errors import BadNumber
 from downtoground.lines import are_lines, input_line, needs_of, renumbered
 from downtoground.meeting import Meeting
 from downtoground.needless import paper_for
-from downtoground.parts import places_of
 from downtoground.stepping import Stepping
 from downtoground.steps import all_steps
 from downtoground.values import is_below, is_from, kept
@@ -177,13 +176,20 @@ def _line_taken(loop):
 
 def _measure(clause):
     """How much stands in a clause, and how deep: what is short and flat leads to more of that kind."""
-    sizes = [0]
-    depths = [0]
-    for _, left, right in clause:
-        for places in (places_of(left), places_of(right)):
-            sizes.append(len(places))
-            depths.append(max([len(path) for path, _ in places]))
-    return sum(sizes) + max(depths)
+    measures = [_measure_of_term(side) for _, left, right in clause for side in (left, right)]
+    return sum([size for size, _ in measures]) + max([depth for _, depth in measures], default=0)
+
+
+def _measure_of_term(term):
+    """How much stands in a term, and how deep."""
+    size = 1
+    depth = 0
+    if isinstance(term, tuple):
+        for part in term[1:]:
+            own_size, own_depth = _measure_of_term(part)
+            size += own_size
+            depth = max(depth, own_depth + 1)
+    return size, depth
 
 
 def _fresh_lines(order, lines, keeping, last):

@@ -8,14 +8,14 @@ class Naming:
     """The new names made so far for some sentences, in `made`, and which one comes next."""
 
     def __init__(self, sentences):
-        self.taken = {name: True for sentence in sentences for name in names_in(sentence)}
+        self.barred = {name: True for sentence in sentences for name in names_in(sentence)}
         self.last = {"some": 0, "part": 0}
         self.made = []
 
     def new_name(self, word):
         """The next name of a word and a number that stands in none of the sentences."""
         name = ""
-        while name == "" or name in self.taken:
+        while name == "" or name in self.barred:
             self.last[word] += 1
             name = word + str(self.last[word])
         return name

@@ -6,6 +6,7 @@ from downtoground.errors import TooGreat
 from downtoground.ground import Closed, decide
 from downtoground.judge import ground_lines, grounded, is_refutation, is_saturation
 from downtoground.loop import Loop, Refuted, Saturated, settle
+from downtoground.needless import paper_for
 from downtoground.orders import Order
 from downtoground.steps import all_steps, conclusion_of
 from downtoground.texts import clause_of
@@ -243,6 +244,18 @@ class GroundedTest(unittest.TestCase):
             (("follows", (2,)), ())))
 
 
+    def test_one_clause_as_two_lines(self):
+        row = clauses("q", "q != yes | q != yes")
+        lines = (row_line(row, 0), row_line(row, 0), row_line(row, 1))
+        for step in (("put in", 0, 0, 0, 2, 0, 0, ()), ("resolved", 3, 1), ("put in", 1, 0, 0, 4, 0, 0, ()), ("resolved", 5, 0)):
+            lines += ((step, conclusion_of([clause for _, clause in lines], step)),)
+        self.assertIs(is_refutation(row, lines), True)
+        self.assertEqual(grounded(SMALL, row, lines), ((0, ()), (1, ())))
+        self.assertEqual([step for step, _ in ground_lines(SMALL, row, lines)], [
+            ("input", 0, ()), ("input", 0, ()), ("input", 1, ()), ("follows", (1, 2)), ("follows", (3,)), ("follows", (0, 4)),
+            ("follows", (5,))])
+
+
 def row_line(row, n):
     return (("input", n), plain(row[n]))
 
@@ -400,6 +413,26 @@ class SaturationTest(unittest.TestCase):
                 self.assertIs(is_saturation(order, row, value), judge.judge(value), (row, value))
             more = tuple(row) + (plain(row[0]) if row else clause_of("[]"),)
             self.assertIs(is_saturation(order, more, told), False)
+
+    def test_strict_papers_of_steps_and_others_of_clauses(self):
+        order = Order((("c", 0, 1), ("b", 0, 2), ("f", 1, 1), ("a", 0, 2), ("g", 0, 9)), ())
+        lot = clauses("f(a) = b", "b = c")
+
+        def papers(row, strict):
+            return tuple(paper_for(order, clause, lot, strict) for clause in row)
+
+        conclusions = [clause for _, clause in all_steps(order, lot)]
+        row = clauses("f(a) = c", "b = c")
+        self.assertIsNone(paper_for(order, row[0], lot, True))
+        self.assertIs(is_saturation(order, row, (lot, papers(row, False), papers(conclusions, True))), True)
+        lot = clauses("f(a) = b", "b = c", "g = f(a)", "g = c")
+        conclusions = [clause for _, clause in all_steps(order, lot)]
+        self.assertIn(clause_of("f(a) = c"), conclusions)
+        self.assertNotIn(None, papers(conclusions, False))
+        self.assertIs(is_saturation(order, row, (lot, papers(row, False), papers(conclusions, False))), False)
+        lot = clauses("f(a) = b", "b = c", "g = f(a)", "g = c", "f(a) = c")
+        conclusions = [clause for _, clause in all_steps(order, lot)]
+        self.assertIs(is_saturation(order, row, (lot, papers(row, False), papers(conclusions, True))), True)
 
     def test_clauses_that_are_none(self):
         for clause in (((True, 0, 0, 0),), ((True, 0),), ((1, 0, 0),), ((None, 0, 0),), ((True, 1, 0),), ((True, 0, 2),),

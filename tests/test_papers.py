@@ -95,10 +95,21 @@ class PaperForTest(unittest.TestCase):
             for lot in (clauses("X0 = X1"), clauses("X0 != X1"), clauses("X0 = a", "X0 = X1")):
                 for strict in (True, False):
                     self.assertIsNone(paper_for(SMALL, clause_of(text), lot, strict), text)
+        # Led on so, these would come to a = yes | a != yes.
+        self.assertIsNone(paper_for(SMALL, clause_of("p(b) | not q"), clauses("X0 = a"), False))
+        self.assertIsNone(paper_for(SMALL, clause_of("not p(b) | not q"), clauses("X0 = a", "a != X0"), True))
         self.assertIs(is_paper(SMALL, clause_of("q"), clauses("X0 = X1"),
                                ("within", 0, ((0, ("q",)), (1, ("yes",))), (0,)), False), False)
         self.assertIs(is_paper(SMALL, clause_of("not q | yes = yes"), clauses("X0 = a"),
                                ("led", 0, 0, ((0, ("q",)),), 0, 0, (), ("same", 1)), False), False)
+
+    def test_sides_without_all_variables_do_not_lead_on(self):
+        # The variables of the lot's clauses are none of the clause's own.
+        for lot, text in ((("f(X0) = X1",), "not p(f(X1)) | p(X1)"), (("f(X0) = f(X1)",), "not p(f(f(X1))) | p(f(X1))"),
+                          (("X0 = X1",), "not p(f(X1)) | p(X1)")):
+            for strict in (True, False):
+                self.assertIsNone(paper_for(SMALL, clause_of(text), clauses(*lot), strict), text)
+        self.assertIsNotNone(paper_for(SMALL, clause_of("not p(f(X1)) | p(X1)"), clauses("f(X0) = X0"), True))
 
     def test_just_where_the_first_ways_come_to_one(self):
         told = []
